@@ -1,0 +1,1 @@
+"""Pagelend: pages of files, lent to clients by leases."""
