@@ -1,12 +1,18 @@
-"""What a whole number and a name are, told of anything."""
+"""What a whole number and a name are, told of anything, and the greatest value of a page."""
 
 LETTERS = "abcdefghijklmnopqrstuvwxyz"
 LONGEST_NAME = 8
+GREATEST_VALUE = 999
 
 
 def is_whole(thing):
     """Tell whether it is a whole number; a truth is none."""
     return isinstance(thing, int) and not isinstance(thing, bool)
+
+
+def is_number(thing):
+    """Tell whether it is a whole number from 0 on."""
+    return is_whole(thing) and thing >= 0
 
 
 def is_within(thing, least, most):

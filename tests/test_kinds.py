@@ -1,6 +1,6 @@
 import unittest
 
-from pagelend.kinds import is_name, is_rising, is_tuple, is_whole, is_within
+from pagelend.kinds import is_name, is_number, is_rising, is_tuple, is_whole, is_within
 
 NO_NUMBERS = [True, False, None, "", "1", [], [1], (), (1,), 1.0]
 
@@ -13,6 +13,12 @@ class WholeNumbers(unittest.TestCase):
     def test_truths_and_all_else_are_none(self):
         for thing in NO_NUMBERS:
             self.assertIs(is_whole(thing), False)
+
+    def test_numbers_are_whole_ones_from_0_on(self):
+        for thing in [0, 1, 999, 10 ** 60]:
+            self.assertIs(is_number(thing), True)
+        for thing in [-1, -(10 ** 60)] + NO_NUMBERS:
+            self.assertIs(is_number(thing), False)
 
     def test_within_takes_both_ends(self):
         told = [is_within(k, 0, 2) for k in [-1, 0, 1, 2, 3]]

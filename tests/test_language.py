@@ -16,6 +16,10 @@ classmethod""".split()
 BARRED_WORDS = """type typing typing_extensions enum Enum IntEnum StrEnum Flag IntFlag Generic
 Protocol ABC ABCMeta namedtuple NamedTuple TypedDict TYPE_CHECKING abstractmethod""".split()
 BARRED_NAMES = "register mro elements open input law version_info with_traceback add_note".split()
+BUILTIN_METHODS = """append clear copy count endswith extend find get index insert isalnum isalpha
+isdigit islower isspace isupper items join keys ljust lower lstrip partition pop remove replace
+reverse rfind rjust rpartition rsplit rstrip setdefault split splitlines startswith strip update
+upper values zfill bit_length""".split()
 STATEMENTS = (ast.Global, ast.AsyncFunctionDef, ast.AsyncFor, ast.AsyncWith, ast.Import)
 
 
@@ -145,6 +149,61 @@ class Language(unittest.TestCase):
                         if isinstance(op, (ast.Is, ast.IsNot)):
                             self.assertIsInstance(side, ast.Constant, path)
                             self.assertTrue(side.value in (None, True, False), path)
+
+    def test_no_generators_beside_a_class_with_eq(self):
+        for path, tree in trees():
+            for node in ast.walk(tree):
+                self.assertNotIsInstance(node, (ast.GeneratorExp, ast.Yield, ast.YieldFrom), path)
+
+    def test_methods_and_attributes(self):
+        methods, assigned, read = set(), set(), {}
+        for path, tree in trees():
+            for node in ast.walk(tree):
+                if isinstance(node, ast.ClassDef):
+                    own = [part.name for part in node.body if isinstance(part, ast.FunctionDef)]
+                    self.assertEqual(len(own), len(set(own)), path)
+                    methods.update(own)
+                if isinstance(node, ast.Attribute):
+                    if isinstance(node.ctx, ast.Store):
+                        assigned.add(node.attr)
+                    else:
+                        read[node.attr] = path
+        self.assertEqual(methods & assigned, set())
+        for name in read:
+            self.assertIn(name, methods | assigned | set(BUILTIN_METHODS), read[name])
+
+    def test_names_of_imports_and_classes_are_not_taken(self):
+        for path, tree in trees():
+            taken = {node.name for node in tree.body if isinstance(node, ast.ClassDef)}
+            for node in tree.body:
+                if isinstance(node, ast.ImportFrom):
+                    taken.update(name.asname or name.name for name in node.names)
+            for node in ast.walk(tree):
+                if isinstance(node, ast.arg):
+                    self.assertNotIn(node.arg, taken, path)
+                if isinstance(node, ast.Name) and isinstance(node.ctx, ast.Store):
+                    self.assertNotIn(node.id, taken, path)
+            bound = [node.name for node in tree.body
+                     if isinstance(node, (ast.FunctionDef, ast.ClassDef))]
+            self.assertEqual(len(bound), len(set(bound)), path)
+            self.assertEqual(set(bound) & taken, {
+                node.name for node in tree.body if isinstance(node, ast.ClassDef)}, path)
+
+    def test_errors(self):
+        for path, tree in trees():
+            for node in ast.walk(tree):
+                if isinstance(node, ast.Raise) and node.exc is not None:
+                    self.assertIsInstance(node.exc, ast.Call, path)
+                    self.assertIsInstance(node.exc.func, ast.Name, path)
+                if isinstance(node, ast.ExceptHandler):
+                    self.assertIsInstance(node.type, ast.Name, path)
+                    self.assertNotIn(node.type.id, dir(builtins), path)
+
+    def test_each_file_is_listed_in_the_readme(self):
+        readme = (PACKAGE.parent / "README.md").read_text()
+        for path, _ in files():
+            if path.name != "__init__.py":
+                self.assertIn("`pagelend/" + path.name + "`", readme)
 
     def test_no_warnings(self):
         with warnings.catch_warnings():

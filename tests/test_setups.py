@@ -6,18 +6,10 @@ import unittest
 from pagelend import setups
 from pagelend.errors import NoSetup
 from pagelend.setups import DRIFT, LENGTH, MOST, is_setup, made
+from things import nested
 
 FILES = (("home", 2), ("log", 1))
 CLIENTS = (("ann", 100, 0), ("bo", 95, 7))
-
-
-def nested(depth, kind):
-    thing = kind()
-    for _ in range(depth):
-        thing = kind([thing])
-    return thing
-
-
 SETUP = (FILES, CLIENTS, 10, 10)
 ANYTHING = [
     None, True, False, 0, 1, -1, 2, 10 ** 60, -(10 ** 60), "", "a", "home", "server",
