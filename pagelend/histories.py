@@ -6,7 +6,7 @@ where it is not, all of its tasks can be done at one moment from its last begin
 to its first end. So it is enough to look at these two times of each value.
 """
 
-from pagelend.kinds import GREATEST_VALUE, is_number, is_tuple, is_within
+from pagelend.kinds import GREATEST_VALUE, are_unlike, is_number, is_tuple, is_within
 
 MOST_TASKS = 60
 LAST_TIME = 10 ** 6
@@ -23,11 +23,6 @@ def is_history_row(thing):
     if not is_within(value, least, GREATEST_VALUE):
         return False
     return is_within(begin, 0, LAST_TIME) and is_within(end, begin + 1, LAST_TIME)
-
-
-def are_unlike(things):
-    """Tell whether none of the numbers is there twice."""
-    return len(set(things)) == len(things)
 
 
 def is_history(thing):

@@ -35,3 +35,8 @@ def is_tuple(thing, least, most):
 def is_rising(things):
     """Tell whether things that can be compared are in order, none twice."""
     return all([things[k] < things[k + 1] for k in range(len(things) - 1)])
+
+
+def are_unlike(numbers):
+    """Tell whether none of the numbers is there twice."""
+    return len(set(numbers)) == len(numbers)

@@ -1,6 +1,7 @@
 import unittest
 
-from pagelend.kinds import is_name, is_number, is_rising, is_tuple, is_whole, is_within
+from pagelend.kinds import (
+    are_unlike, is_name, is_number, is_rising, is_tuple, is_whole, is_within)
 
 NO_NUMBERS = [True, False, None, "", "1", [], [1], (), (1,), 1.0]
 
@@ -63,6 +64,12 @@ class Tuples(unittest.TestCase):
             self.assertIs(is_rising(things), True)
         for things in [["b", "a"], ["a", "a"], ["a", "c", "b"], ["b", "a", "c"], ["a", "b", "b"]]:
             self.assertIs(is_rising(things), False)
+
+    def test_unlike_are_numbers_none_of_which_is_there_twice(self):
+        for numbers in [[], [1], [1, 2], [2, 1, 10 ** 60]]:
+            self.assertIs(are_unlike(numbers), True)
+        for numbers in [[1, 1], [1, 2, 1], [2, 10 ** 60, 10 ** 60]]:
+            self.assertIs(are_unlike(numbers), False)
 
 
 if __name__ == "__main__":
