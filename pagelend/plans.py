@@ -53,7 +53,10 @@ def tasks_of(plan):
 
 
 def next_task(world, plan, client):
-    """Tell the client's next task as a step of a world, None where it can not begin one."""
+    """Tell the client's next task as a step of a world, None where it can not begin one.
+
+    One who is not in the plan has no tasks, so none of them is left.
+    """
     tasks = [task for name, share in plan for task in share if name == client]
     begun = len(world.log(word="began", client=client))
     if begun == len(tasks) or world.waiting(client) is not None:
@@ -65,7 +68,7 @@ def next_task(world, plan, client):
 def world_step(world, plan, step):
     """Tell what a step of a run is as a step of a world, None where it is none now."""
     word, what = step
-    if word == "next" and what in [client for client, tasks in plan]:
+    if word == "next":
         return next_task(world, plan, what)
     if word == "deliver" and what in [message[0] for message in world.wire()]:
         return step

@@ -199,6 +199,35 @@ class Language(unittest.TestCase):
                     self.assertIsInstance(node.type, ast.Name, path)
                     self.assertNotIn(node.type.id, dir(builtins), path)
 
+    def test_finally_holds_plain_assignments_alone(self):
+        for path, tree in trees():
+            for node in ast.walk(tree):
+                for row in getattr(node, "finalbody", []):
+                    self.assertIsInstance(row, (ast.Assign, ast.Pass), path)
+                    if isinstance(row, ast.Assign):
+                        self.assertEqual(len(row.targets), 1, path)
+                        self.assertIsInstance(row.targets[0], (ast.Name, ast.Attribute), path)
+                        self.assertIsInstance(
+                            row.value, (ast.Constant, ast.Name, ast.Attribute), path)
+
+    def test_sets_are_counted_on_the_spot(self):
+        for path, tree in trees():
+            counted = [node.args[0] for node in ast.walk(tree) if isinstance(node, ast.Call)
+                       and isinstance(node.func, ast.Name) and node.func.id == "len"]
+            for node in ast.walk(tree):
+                self.assertNotIsInstance(node, (ast.Set, ast.SetComp), path)
+                if isinstance(node, ast.Name) and node.id in ("set", "frozenset"):
+                    self.assertIn(node, [part.func for part in counted
+                                         if isinstance(part, ast.Call)], path)
+
+    def test_stars_in_calls_stand_before_names(self):
+        for path, tree in trees():
+            for node in ast.walk(tree):
+                if isinstance(node, ast.Call):
+                    for part in node.args:
+                        if isinstance(part, ast.Starred):
+                            self.assertIsInstance(part.value, ast.Name, path)
+
     def test_each_file_is_listed_in_the_readme(self):
         readme = (PACKAGE.parent / "README.md").read_text()
         for path, _ in files():

@@ -527,6 +527,14 @@ class ComesTo(unittest.TestCase):
             for at in range(len(RUN) + 1):
                 self.told(PLAN, [*RUN[:at], step, *RUN[at:]], None)
 
+    def test_words_exchanged(self):
+        for word in ["", "Next", "next ", "Deliver", "drop", "ask", "pass", "read", "ann", "x"]:
+            for at, (_, what) in enumerate(RUN):
+                self.told(PLAN, [*RUN[:at], (word, what), *RUN[at + 1:]], None)
+        for at, (word, what) in enumerate(RUN):
+            other = "deliver" if word == "next" else "next"
+            self.told(PLAN, [*RUN[:at], (other, what), *RUN[at + 1:]], None)
+
     def test_a_task_that_never_gets_done(self):
         # The recall of ann's new lease comes ahead of its grant, which then counts no more.
         run = [
